@@ -401,7 +401,7 @@ func TestP2HeapsMadeApart(t *testing.T) {
 	checkDrained(t, h, 3, 5)
 }
 
-func TestMergedHeapsAreApartAgain(t *testing.T) {
+func TestP2MergedHeapsAreApartAgain(t *testing.T) {
 	h, o := New(number), filled(number, 1, 2, 3)
 	h.Merge(o)
 	o.Push(9)
@@ -411,7 +411,7 @@ func TestMergedHeapsAreApartAgain(t *testing.T) {
 	checkDrained(t, o, 8, 9)
 }
 
-func TestWhatWasPoppedIsNotKept(t *testing.T) {
+func TestP2_1WhatWasPoppedIsNotKept(t *testing.T) {
 	h := filled(func(a, b *one) bool { return a.key < b.key }, &one{1, 0}, &one{2, 0}, &one{3, 0})
 	for h.Len() > 0 {
 		h.Pop()
